@@ -1,0 +1,1 @@
+"""Withoutloops: what cannot be asked without a loop, kept by questions without loops."""

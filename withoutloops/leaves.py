@@ -1,0 +1,17 @@
+"""Leaves: the rows for which the questions hold within which there is no other question."""
+
+from withoutloops.values import all_rows
+
+
+def leaf_rows(n, store):
+    """By their words, the rows for which all leaves hold, over n places."""
+    pairs = all_rows(n, 2)
+    rows = {
+        "yes": ((),),
+        "no": (),
+        "same": tuple([(one, other) for one, other in pairs if one == other]),
+        "less": tuple([(one, other) for one, other in pairs if one < other]),
+    }
+    for name, standing in store:
+        rows[name] = standing
+    return rows

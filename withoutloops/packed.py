@@ -1,0 +1,193 @@
+"""Questions answered by going through all places, many of them at once.
+
+A ground has a few positions, and a bit for each row of places at them. A table over it is one integer: the bits of
+the rows that hold. A name of a place takes a position that no other name needs where it is alive, so a ground has
+no more positions than the question is wide. If there are not enough of them, a name is gone through place by place.
+"""
+
+from withoutloops.leaves import leaf_rows
+from withoutloops.values import CHANGED_NAMES, all_rows
+
+# How many positions a ground may have, by the number of places: no table is a number of more than 900 figures.
+MOST_POSITIONS = (0, 16, 11, 7, 5, 4)
+
+
+def repeated(many, gap):
+    """The number with so many bits, one at each gap, the first one the lowest."""
+    return ((1 << many * gap) - 1) // ((1 << gap) - 1)
+
+
+class Ground:
+    """All rows of n places at some positions, a bit for each: that of a row is the sum of places times gaps."""
+
+    def __init__(self, n, positions):
+        self.n = n
+        self.gaps = []
+        many = 1
+        for _ in range(positions):
+            self.gaps.append(many)
+            many = many * n
+        self.full = (1 << many) - 1
+        self.copies = [repeated(n, gap) for gap in self.gaps]
+        self.lots = [self.lots_of(many, gap) for gap in self.gaps]
+
+    def lots_of(self, many, gap):
+        """By place, which of so many bits have this place at the position with this gap."""
+        lowest = repeated(many // (gap * self.n), gap * self.n) * ((1 << gap) - 1)
+        return [lowest << place * gap for place in range(self.n)]
+
+    def lots_at(self, place):
+        """By place, all bits for this one and none for others."""
+        return [self.full if other == place else 0 for other in range(self.n)]
+
+    def parted(self, table, position):
+        """By place, the table with this place put at the position, whichever stands there."""
+        gap = self.gaps[position]
+        lots = self.lots[position]
+        lowest = [(table & lots[place]) >> place * gap for place in range(self.n)]
+        return [bits * self.copies[position] for bits in lowest]
+
+    def rows_of(self, table, many):
+        """The ascending tuple of the rows at the first so many positions that stand in the table."""
+        found = []
+        for row in all_rows(self.n, many):
+            bit = sum([place * gap for place, gap in zip(row, self.gaps)])
+            if table >> bit & 1:
+                found.append(row)
+        return tuple(found)
+
+
+class Spot:
+    """Where a name of a place stands: its position, None if it has none, and by place the bits that have it there."""
+
+    def __init__(self, position, lots):
+        self.position = position
+        self.lots = lots
+
+
+def united(tables):
+    """The table of what stands in at least one of the tables."""
+    found = 0
+    for table in tables:
+        found = found | table
+    return found
+
+
+def common(tables):
+    """The table of what stands in each of one or more tables."""
+    found = tables[0]
+    for table in tables:
+        found = found & table
+    return found
+
+
+class Walk:
+    """Goes through all rows of a ground, and tells for which of them the parts of a question hold."""
+
+    def __init__(self, ground, rows):
+        self.ground = ground
+        self.rows = rows
+
+    def table(self, part, spots):
+        """The table of a part, the names that are alive there standing at these spots."""
+        word = part.word
+        if word in self.rows:
+            return self.leaf(self.rows[word], [spots[name].lots for name in part.places])
+        if word == "not":
+            return self.ground.full ^ self.table(part.inner[0], spots)
+        if word == "and":
+            return self.both(part.inner, spots)
+        if word == "or":
+            return self.either(part.inner, spots)
+        tables = self.by_places(part.inner[0], part.bound, spots)
+        if word == "some":
+            return united(tables)
+        if word == "every":
+            return common(tables)
+        return self.come_to(tables, spots[part.places[0]], spots[part.places[1]])
+
+    def leaf(self, rows, lots):
+        """The table of what has one of the rows at names with these lots."""
+        found = 0
+        for row in rows:
+            held = self.ground.full
+            for place, by_place in zip(row, lots):
+                held = held & by_place[place]
+            found = found | held
+        return found
+
+    def both(self, inner, spots):
+        """The table of what stands in both inner parts."""
+        one = self.table(inner[0], spots)
+        # To go through the other part may take long, and could tell nothing more here.
+        if one == 0:
+            return one
+        return one & self.table(inner[1], spots)
+
+    def either(self, inner, spots):
+        """The table of what stands in at least one of both inner parts."""
+        one = self.table(inner[0], spots)
+        # To go through the other part may take long, and could tell nothing more here.
+        if one == self.ground.full:
+            return one
+        return one | self.table(inner[1], spots)
+
+    def unused(self, part, bound, spots):
+        """A position that none of the names needs that are free in this part but for the bound ones, or None."""
+        needed = [spots[name].position for name in part.free if name not in bound]
+        for position in range(len(self.ground.gaps)):
+            if position not in needed:
+                return position
+        return None
+
+    def by_places(self, part, bound, spots):
+        """The tables of a part, one for each row of places of the bound names, these rows ascending."""
+        if len(bound) == 0:
+            return [self.table(part, spots)]
+        position = self.unused(part, bound, spots)
+        if position is None:
+            return self.by_each_place(part, bound, spots)
+        spread = dict(spots)
+        spread[bound[0]] = Spot(position, self.ground.lots[position])
+        tables = [self.ground.parted(table, position) for table in self.by_places(part, bound[1:], spread)]
+        return [by_place[place] for place in range(self.ground.n) for by_place in tables]
+
+    def by_each_place(self, part, bound, spots):
+        """The same tables, the first bound name put at one place after the other."""
+        tables = []
+        for place in range(self.ground.n):
+            put = dict(spots)
+            put[bound[0]] = Spot(None, self.ground.lots_at(place))
+            tables.extend(self.by_places(part, bound[1:], put))
+        return tables
+
+    def come_to(self, steps, start, end):
+        """The table of what comes from start to end by steps: tables, for each two places one, ascending."""
+        n = self.ground.n
+        places = range(n)
+        come = []
+        for place in places:
+            tables = steps[place * n:place * n + n]
+            tables[place] = self.ground.full
+            come.append(tables)
+        for over in places:
+            for one in places:
+                for other in places:
+                    come[one][other] = come[one][other] | come[one][over] & come[over][other]
+        found = 0
+        for one in places:
+            for other in places:
+                found = found | start.lots[one] & end.lots[other] & come[one][other]
+        return found
+
+
+def rows_that_hold(question, positions, n, store, row):
+    """The ascending tuple of the rows for which the question, so many positions wide, holds."""
+    ground = Ground(n, min(positions, MOST_POSITIONS[n]))
+    spots = {}
+    for position, name in enumerate(question.head):
+        spots[name] = Spot(position, ground.lots[position])
+    for name, place in zip(CHANGED_NAMES, row):
+        spots[name] = Spot(None, ground.lots_at(place))
+    table = Walk(ground, leaf_rows(n, store)).table(question.whole, spots)
+    return ground.rows_of(table, len(question.head))
