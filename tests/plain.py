@@ -203,6 +203,37 @@ def random_rows(rng, many, n):
     return tuple(row for row in rows if rng.random() < share)
 
 
+def balanced(word, parts):
+    """All parts joined by a word of two, as shallow as can be."""
+    if len(parts) == 1:
+        return parts[0]
+    half = len(parts) // 2
+    return f'{word} {balanced(word, parts[:half])} {balanced(word, parts[half:])}'
+
+
+def subsets(rows):
+    """All tuples of some of the rows, each ascending."""
+    rows = sorted(rows)
+    return [
+        tuple(row for row, is_in in zip(rows, chosen) if is_in)
+        for chosen in itertools.product((False, True), repeat=len(rows))
+    ]
+
+
+def all_stores(tables, n):
+    """All STORES of the tables over n places."""
+    each = [
+        [(name, rows) for rows in subsets(itertools.product(range(n), repeat=many))] for name, many in tables
+    ]
+    return list(itertools.product(*each))
+
+
+def all_pairs(tables, changed, n):
+    """All (STORE, row) of the tables and so many changed places."""
+    rows = list(itertools.product(range(n), repeat=changed))
+    return [(store, row) for store in all_stores(tables, n) for row in rows]
+
+
 def random_asked(rng, n, most_deep, loops=False):
     """A Question, a STORE of its tables over n places, and a changed row."""
     tables = (('row', 2), ('in', 1), ('odd', 0), ('mid', 3))[:rng.randint(1, 4)]

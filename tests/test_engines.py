@@ -5,7 +5,7 @@ import random
 import unittest
 
 from tests.plain import (
-    plain_answer, plain_looks, plain_number, random_asked, random_rows, random_text,
+    balanced, plain_answer, plain_looks, plain_number, random_asked, random_rows, random_text, subsets,
 )
 from withoutloops.asks import Question, width
 from withoutloops.engines import answered, joined, looks
@@ -20,14 +20,6 @@ RING = (('row', ((0, 1), (1, 2), (2, 0), (3, 4))),)
 def asked(head, text, n=3, store=STORE, row=()):
     tables = tuple(table for table in TABLES if table[0] in dict(store))
     return answered(Question(head, text, tables, len(row)), n, store, row)
-
-
-def balanced(word, parts):
-    """All parts joined by a word of two, as shallow as can be."""
-    if len(parts) == 1:
-        return parts[0]
-    half = len(parts) // 2
-    return f'{word} {balanced(word, parts[:half])} {balanced(word, parts[half:])}'
 
 
 class Answered(unittest.TestCase):
@@ -208,14 +200,6 @@ class Answered(unittest.TestCase):
             self.assertEqual(answered(row=(), store=STORE[:1], n=3, question=question), ((0,), (1,)))
             self.assertEqual(joined(row=(), store=STORE[:1], n=3, question=question), (((0,), (1,)), 2 + 2 + 3 + 3 + 6))
             self.assertEqual(looks(n=3, question=question), 18)
-
-
-def subsets(rows):
-    rows = sorted(rows)
-    return [
-        tuple(row for row, is_in in zip(rows, chosen) if is_in)
-        for chosen in itertools.product((False, True), repeat=len(rows))
-    ]
 
 
 class Counted(unittest.TestCase):

@@ -1,8 +1,8 @@
 """Engines: what a question answers upon a store, and what it takes to work this out."""
 
-from withoutloops.asks import check_loopless, check_question, width
+from withoutloops.asks import check_loopless, check_question
 from withoutloops.joins import joined_rows
-from withoutloops.packed import rows_that_hold
+from withoutloops.packed import Grounds
 from withoutloops.values import check_row, check_size, check_store
 
 
@@ -17,7 +17,8 @@ def answered(question, n, store, row):
     """The ascending tuple of all rows of places of the question's head for which it holds."""
     check_question(question)
     check_asked(question, n, store, row)
-    return rows_that_hold(question, width(question), n, store, row)
+    grounds = Grounds(n)
+    return grounds.rows_that_hold(question, grounds.leaves_upon(store), row)
 
 
 def looks(question, n):

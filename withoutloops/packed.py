@@ -3,8 +3,10 @@
 A ground has a few positions, and a bit for each row of places at them. A table over it is one integer: the bits of
 the rows that hold. A name of a place takes a position that no other name needs where it is alive, so a ground has
 no more positions than the question is wide. If there are not enough of them, a name is gone through place by place.
+A ground may have such bits for several stores, one store's bits behind the other's: then all are gone through at once.
 """
 
+from withoutloops.asks import width
 from withoutloops.leaves import leaf_rows
 from withoutloops.values import CHANGED_NAMES, all_rows
 
@@ -20,16 +22,19 @@ def repeated(many, gap):
 class Ground:
     """All rows of n places at some positions, a bit for each: that of a row is the sum of places times gaps."""
 
-    def __init__(self, n, positions):
+    def __init__(self, n, positions, stores):
         self.n = n
         self.gaps = []
         many = 1
         for _ in range(positions):
             self.gaps.append(many)
             many = many * n
-        self.full = (1 << many) - 1
+        self.size = many
+        self.stores = stores
+        self.full = (1 << many * stores) - 1
         self.copies = [repeated(n, gap) for gap in self.gaps]
-        self.lots = [self.lots_of(many, gap) for gap in self.gaps]
+        self.lots = [self.lots_of(many * stores, gap) for gap in self.gaps]
+        self.heads = {}
 
     def lots_of(self, many, gap):
         """By place, which of so many bits have this place at the position with this gap."""
@@ -47,14 +52,21 @@ class Ground:
         lowest = [(table & lots[place]) >> place * gap for place in range(self.n)]
         return [bits * self.copies[position] for bits in lowest]
 
+    def head_bits(self, many):
+        """The rows at the first so many positions, ascending, each with its bit in the first store."""
+        rows = all_rows(self.n, many)
+        return [(row, sum([place * gap for place, gap in zip(row, self.gaps)])) for row in rows]
+
     def rows_of(self, table, many):
-        """The ascending tuple of the rows at the first so many positions that stand in the table."""
-        found = []
-        for row in all_rows(self.n, many):
-            bit = sum([place * gap for place, gap in zip(row, self.gaps)])
-            if table >> bit & 1:
-                found.append(row)
-        return tuple(found)
+        """The ascending tuple of the rows at the first so many positions that stand in the table's first store."""
+        if many not in self.heads:
+            self.heads[many] = self.head_bits(many)
+        return tuple([row for row, bit in self.heads[many] if table >> bit & 1])
+
+    def by_stores(self, table):
+        """The bits of each store in the table."""
+        whole = (1 << self.size) - 1
+        return [table >> store * self.size & whole for store in range(self.stores)]
 
 
 class Spot:
@@ -82,17 +94,31 @@ def common(tables):
 
 
 class Walk:
-    """Goes through all rows of a ground, and tells for which of them the parts of a question hold."""
+    """Goes through all rows of a ground, and tells for which of them the parts of a question hold.
 
-    def __init__(self, ground, rows):
+    rows tells by each word of a leaf the rows for which it holds. standing tells by (word, row) in which stores of
+    the ground the row stands, as the table of their bits; where it tells nothing, the row stands in all of them.
+    """
+
+    def __init__(self, ground, rows, standing):
         self.ground = ground
         self.rows = rows
+        self.standing = standing
+
+    def whole_table(self, question, row):
+        """The table of a Question, the names of its head at the first positions, asked with this changed row."""
+        spots = {}
+        for position, name in enumerate(question.head):
+            spots[name] = Spot(position, self.ground.lots[position])
+        for name, place in zip(CHANGED_NAMES, row):
+            spots[name] = Spot(None, self.ground.lots_at(place))
+        return self.table(question.whole, spots)
 
     def table(self, part, spots):
         """The table of a part, the names that are alive there standing at these spots."""
         word = part.word
         if word in self.rows:
-            return self.leaf(self.rows[word], [spots[name].lots for name in part.places])
+            return self.leaf(word, [spots[name].lots for name in part.places])
         if word == "not":
             return self.ground.full ^ self.table(part.inner[0], spots)
         if word == "and":
@@ -106,11 +132,11 @@ class Walk:
             return common(tables)
         return self.come_to(tables, spots[part.places[0]], spots[part.places[1]])
 
-    def leaf(self, rows, lots):
-        """The table of what has one of the rows at names with these lots."""
+    def leaf(self, word, lots):
+        """The table of what has one of the rows of this word at names with these lots."""
         found = 0
-        for row in rows:
-            held = self.ground.full
+        for row in self.rows[word]:
+            held = self.standing.get((word, row), self.ground.full)
             for place, by_place in zip(row, lots):
                 held = held & by_place[place]
             found = found | held
@@ -181,13 +207,30 @@ class Walk:
         return found
 
 
-def rows_that_hold(question, positions, n, store, row):
-    """The ascending tuple of the rows for which the question, so many positions wide, holds."""
-    ground = Ground(n, min(positions, MOST_POSITIONS[n]))
-    spots = {}
-    for position, name in enumerate(question.head):
-        spots[name] = Spot(position, ground.lots[position])
-    for name, place in zip(CHANGED_NAMES, row):
-        spots[name] = Spot(None, ground.lots_at(place))
-    table = Walk(ground, leaf_rows(n, store)).table(question.whole, spots)
-    return ground.rows_of(table, len(question.head))
+def most_positions(questions, n):
+    """How many positions a ground has upon which each of the questions is asked."""
+    return min(max([width(question) for question in questions]), MOST_POSITIONS[n])
+
+
+class Grounds:
+    """What questions over n places are asked upon, each ground made once."""
+
+    def __init__(self, n):
+        self.n = n
+        self.by_positions = {}
+
+    def with_positions(self, positions):
+        """The ground with so many positions."""
+        if positions not in self.by_positions:
+            self.by_positions[positions] = Ground(self.n, positions, 1)
+        return self.by_positions[positions]
+
+    def leaves_upon(self, store):
+        """By their words, the rows for which all leaves hold upon a store."""
+        return leaf_rows(self.n, store)
+
+    def rows_that_hold(self, question, leaves, row):
+        """The ascending tuple of the rows for which the question holds upon these leaves, with this changed row."""
+        ground = self.with_positions(most_positions([question], self.n))
+        table = Walk(ground, leaves, {}).whole_table(question, row)
+        return ground.rows_of(table, len(question.head))

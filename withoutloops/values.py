@@ -4,7 +4,7 @@ A value that is handed in may be anything. So it is never compared or looked up 
 of the right kind: True is not 1, and a list is not a tuple.
 """
 
-from withoutloops.errors import BadRow, BadSize, BadStore
+from withoutloops.errors import BadPlace, BadRow, BadSize, BadStore
 
 MOST_PLACES = 5
 MOST_IN_ROW = 3
@@ -93,6 +93,12 @@ def check_size(n):
     """Refuses what is no number of places."""
     if not is_integer(n, 1, MOST_PLACES):
         raise BadSize(n)
+
+
+def check_place(place, n):
+    """Refuses what is none of n places."""
+    if not is_integer(place, 0, n - 1):
+        raise BadPlace(place)
 
 
 def check_store(store, tables, n):
