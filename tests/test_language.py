@@ -18,6 +18,11 @@ LISTED = {
     'rewriting': 'pushed few_names alike shows_alike hangs_on',
     'keepers': 'Keeper',
     'books': 'Book booked is_right first_wrong',
+    'going': 'going_keeper way shows_way cut shows_cut in_sequence shows_in_sequence ring shows_ring meets',
+    'webs': 'web_keeper side_keeper least_keeper forest path part_of parts is_forest two_sides odd_ring shows_odd_ring '
+            'joins_again',
+    'numbers': 'number_keeper used number_of place_of how_many summed product over_half evenly',
+    'words': 'word_keeper word_of reads between both either least letters other turned',
 }
 METHODS = {'books': 'put strike do table wished copy __len__ __eq__', 'keepers': '__eq__', 'asks': '__eq__'}
 
