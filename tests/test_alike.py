@@ -5,8 +5,9 @@ import random
 import unittest
 
 from tests.plain import all_pairs, balanced, nested, odd_values, plain_answer, random_text
+from tests.refusing import Refusals, refused
 from withoutloops.asks import Question
-from withoutloops.errors import BadMost, BadPair, BadSize, LoopError, NoQuestion, Wide
+from withoutloops.errors import BadMost, BadPair, BadSize, NoQuestion, Wide
 from withoutloops.rewriting import alike, few_names, hangs_on, pushed, shows_alike
 
 TABLES = (('row', 2), ('in', 1), ('odd', 0))
@@ -17,14 +18,6 @@ SMALL = [
     ((), 2, 3), ((), 0, 5), ((('mid', 3),), 0, 1), ((('mid', 3),), 1, 2), ((('in', 1), ('row', 2)), 0, 2),
 ]
 WEB, IN = (('row', 2),), (('in', 1),)
-
-
-def refused(call, *given):
-    try:
-        call(*given)
-    except LoopError as error:
-        return type(error), error.value
-    return None
 
 
 def plain_parted(one, other, n):
@@ -247,18 +240,9 @@ class HangsOn(unittest.TestCase):
         self.assertGreater(len(met), 10)
 
 
-class Refusals(unittest.TestCase):
+class RefusedPairs(Refusals):
     one = Question(('x',), 'in x', TABLES, 1)
     other = Question(('x',), 'not in x', TABLES, 1)
-
-    def check(self, kind, value, call, *given):
-        told = refused(call, *given)
-        self.assertIsNotNone(told, given)
-        self.assertIs(told[0], kind, given)
-        if isinstance(value, (tuple, int)):
-            self.assertEqual((type(told[1]), told[1]), (type(value), value))
-        else:
-            self.assertIs(told[1], value)
 
     def check_both(self, kind, value, *given):
         self.check(kind, value, alike, *given)

@@ -1,12 +1,9 @@
 """Sections 2 and 7: what Book, booked, is_right and first_wrong refuse, and that a call that raises changes nothing."""
 
-import unittest
-
-from tests.plain import nested, odd_values
-from withoutloops.asks import Question
+from tests.refusing import Refusals, odd_objects, refused
 from withoutloops.books import Book, booked, first_wrong, is_right
 from withoutloops.errors import (
-    BadChange, BadChanges, BadRow, BadSize, BadTable, Barred, LoopError, NoBook, NoKeeper, NoWish,
+    BadChange, BadChanges, BadRow, BadSize, BadTable, Barred, NoBook, NoKeeper, NoWish,
 )
 from withoutloops.keepers import Keeper
 
@@ -19,49 +16,27 @@ NO_WISH = Keeper('\n'.join(LINES[:-1]))
 STEP = ('put', 'row', (0, 1))
 
 
-def odd_objects():
-    """Values of all kinds, none of them a name, a row or a change here; objects too."""
-    return odd_values() + [
-        KEEPER, Book(KEEPER, 2), Question((), 'yes', (), 0), [KEEPER], (KEEPER,), {'x': KEEPER}, Keeper, Book,
-        nested(lambda value: (value, KEEPER), 10), 'put', ('put',), b'row', 1.5,
-    ]
-
-
-def refused(call, *given):
-    try:
-        call(*given)
-    except LoopError as error:
-        return type(error), error.value
-    return None
-
-
-class Refusals(unittest.TestCase):
-    def check(self, kind, value, call, *given):
-        told = refused(call, *given)
-        self.assertIsNotNone(told, given)
-        self.assertIs(told[0], kind, given)
-        if isinstance(value, tuple):
-            self.assertEqual(told[1], value)
-        else:
-            self.assertIs(told[1], value)
+def odd_values_and_books():
+    """Values of all kinds, a Keeper and a Book too."""
+    return odd_objects() + [KEEPER, Book(KEEPER, 2)]
 
 
 class New(Refusals):
     def test_what_is_no_keeper(self):
-        for value in odd_objects():
+        for value in odd_values_and_books():
             if value is not KEEPER:
                 self.check(NoKeeper, value, Book, value, 2)
                 self.check(NoKeeper, value, booked, value, 2, ())
                 self.check(NoKeeper, value, first_wrong, value, 2, ())
 
     def test_numbers_of_places(self):
-        for value in odd_objects():
+        for value in odd_values_and_books():
             self.check(BadSize, value, Book, KEEPER, value)
             self.check(BadSize, value, booked, KEEPER, value, ())
             self.check(BadSize, value, first_wrong, KEEPER, value, ())
 
     def test_what_is_no_book(self):
-        for value in odd_objects():
+        for value in odd_values_and_books():
             if not isinstance(value, Book):
                 self.check(NoBook, value, is_right, value)
         self.check(NoWish, None, is_right, Book(NO_WISH, 2))
@@ -92,7 +67,7 @@ class Deeds(Refusals):
         self.assertEqual(self.book, booked(KEEPER, 2, (STEP,)))
 
     def test_names_that_are_none(self):
-        for name in odd_objects() + ['go', 'Row', 'row ', '', 'up', ('row',), ['row'], 'p']:
+        for name in odd_values_and_books() + ['go', 'Row', 'row ', '', 'up', ('row',), ['row'], 'p']:
             for call in (self.book.put, self.book.strike):
                 self.check(BadTable, name, call, name, (0, 1))
                 self.check(BadTable, name, call, name, None)
@@ -100,7 +75,7 @@ class Deeds(Refusals):
     def test_rows_that_are_none(self):
         rows = [(0, 2), (0, -1), (0,), (0, 1, 0), [0, 1], (0, True), (False, 1), (0, None), '01', (0, '1'), ((0, 1),)]
         for call in (self.book.put, self.book.strike):
-            for row in rows + odd_objects():
+            for row in rows + odd_values_and_books():
                 self.check(BadRow, row, call, 'row', row)
             for row in [(2,), (True,), 0, (0, 1), (), [0], ([0],)]:
                 self.check(BadRow, row, call, 'in', row)
@@ -116,7 +91,7 @@ class Deeds(Refusals):
             ('strike', 'in', ()), ('strike', 'flag', (0,)), ('row', 'put', (0, 1)), ({}, {}, {}), (0, 1, 2),
             ('put', {'row': 1}, (0, 1)), ('again', 3, (STEP,)), (STEP,), ('', '', ()), ('put', 'row', ((0,), 1)),
         ]
-        for change in changes + odd_objects():
+        for change in changes + odd_values_and_books():
             self.check(BadChange, change, self.book.do, change)
 
     def test_barred_ones(self):
@@ -131,7 +106,7 @@ class Deeds(Refusals):
             self.check(BadRow, (1, 2), call, 'row', (1, 2))
 
     def test_tables_that_are_none(self):
-        for name in odd_objects() + ['up', '', 'Row', ('row',), ['go'], 'row go']:
+        for name in odd_values_and_books() + ['up', '', 'Row', ('row',), ['go'], 'row go']:
             self.check(BadTable, name, self.book.table, name)
         self.assertEqual(self.book.table('go'), ((0, 0), (0, 1), (1, 1)))
         self.assertEqual((self.book.table('row'), self.book.table('flag')), (((0, 1),), ()))
@@ -145,7 +120,7 @@ class Changes(Refusals):
             self.assertEqual((told[0], type(told[1]), told[1]), (BadChanges, type(value), value))
 
     def test_what_is_no_tuple(self):
-        for value in odd_objects():
+        for value in odd_values_and_books():
             if not isinstance(value, tuple):
                 self.check_both(None, value)
         self.check_both(None, [STEP])

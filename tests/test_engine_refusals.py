@@ -1,11 +1,10 @@
 """Section 5: what answered, looks and joined refuse, and the first that is listed of several."""
 
-import unittest
-
 from tests.plain import nested, odd_values
+from tests.refusing import Refusals, refused
 from withoutloops.asks import Question
 from withoutloops.engines import answered, joined, looks
-from withoutloops.errors import BadRow, BadSize, BadStore, HasLoop, LoopError, NoQuestion
+from withoutloops.errors import BadRow, BadSize, BadStore, HasLoop, NoQuestion
 
 TABLES = (('row', 2), ('in', 1), ('odd', 0))
 STORE = (('row', ((0, 1), (1, 2))), ('in', ((0,), (2,))), ('odd', ()))
@@ -13,21 +12,7 @@ PLAIN = Question(('x',), 'in x', TABLES, 1)
 LOOP = Question(('x',), 'reach x p u v row u v', TABLES, 1)
 
 
-def refused(call, *given):
-    try:
-        call(*given)
-    except LoopError as error:
-        return type(error), error.value
-    return None
-
-
-class Refusals(unittest.TestCase):
-    def check(self, kind, value, call, *given):
-        told = refused(call, *given)
-        self.assertIsNotNone(told, given)
-        self.assertIs(told[0], kind)
-        self.assertIs(told[1], value)
-
+class EngineRefusals(Refusals):
     def check_both(self, kind, value, *given):
         self.check(kind, value, answered, *given)
         self.check(kind, value, joined, *given)

@@ -7,7 +7,7 @@ import unittest
 from tests.plain import odd_values, plain_answer
 from tests.plain_keepers import PlainBook, all_changes, random_change
 from tests.plain_webs import come_to, has_ring, lines_of
-from tests.test_book_refusals import odd_objects, refused
+from tests.refusing import Refusals, odd_objects, refused
 from withoutloops.asks import Question
 from withoutloops.books import Book, booked, first_wrong, is_right
 from withoutloops.errors import BadPlace, Barred, IsWay, NoBook, NotBarred, NotGoing, NoWay
@@ -254,19 +254,10 @@ class Results(unittest.TestCase):
         self.assertEqual(meets(y=1, x=0, book=book), (1,))
 
 
-class Refusals(unittest.TestCase):
+class RefusedGoing(Refusals):
     book = booked(KEEPER, 3, (('put', 'row', (0, 1)),))
     of_two = [way, cut, ring, meets]
     shows_of_two = [shows_way, shows_cut, shows_ring]
-
-    def check(self, kind, value, *given):
-        told = refused(*given)
-        self.assertIsNotNone(told, given)
-        self.assertIs(told[0], kind)
-        if isinstance(value, (tuple, str)):
-            self.assertEqual(told[1], value)
-        else:
-            self.assertIs(told[1], value)
 
     def check_all(self, kind, value, book, x=0, y=1):
         for call in self.of_two:

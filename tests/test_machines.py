@@ -4,8 +4,8 @@ import itertools
 import random
 import unittest
 
-from tests.test_book_refusals import odd_objects, refused
-from tests.test_words import BAD_MACHINES, EVEN, FOUR, THREE, plain_reads, state_behind
+from tests.plain_machines import BAD_MACHINES, EVEN, FOUR, THREE, plain_reads, state_behind
+from tests.refusing import odd_objects, refused
 from withoutloops.errors import BadMachine, BadPair, Wide
 from withoutloops.words import both, either, least, other, reads, turned
 

@@ -7,7 +7,7 @@ import unittest
 from tests.plain import plain_answer
 from tests.plain_keepers import PlainBook, all_changes, random_change
 from tests.plain_webs import lines_of
-from tests.test_book_refusals import odd_objects, refused
+from tests.refusing import Refusals, odd_objects, refused
 from withoutloops.asks import Question
 from withoutloops.books import Book, booked
 from withoutloops.engines import answered
@@ -200,17 +200,8 @@ class Histories(unittest.TestCase):
         self.assertEqual(told, [(2, 0, 3), 2, 0, 2, 3, 3, True, False])
 
 
-class Refusals(unittest.TestCase):
+class RefusedNumbers(Refusals):
     book = booked(KEEPER, 4, put(2, 0))
-
-    def check(self, kind, value, *given):
-        told = refused(*given)
-        self.assertIsNotNone(told, given)
-        self.assertIs(told[0], kind, given)
-        if isinstance(value, str):
-            self.assertEqual(told[1], value)
-        else:
-            self.assertIs(told[1], value)
 
     def check_all(self, kind, value, book):
         for call in (used, how_many, over_half):

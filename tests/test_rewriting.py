@@ -7,8 +7,9 @@ import unittest
 from tests.plain import (
     all_pairs, all_parts, balanced, free, nested, odd_values, plain_answer, plain_width, random_text, tree,
 )
+from tests.refusing import refused
 from withoutloops.asks import Question, width
-from withoutloops.errors import BadQuestion, HasLoop, LoopError, NoQuestion
+from withoutloops.errors import BadQuestion, HasLoop, NoQuestion
 from withoutloops.rewriting import few_names, pushed
 
 TABLES = (('row', 2), ('in', 1), ('odd', 0))
@@ -54,14 +55,6 @@ def are_answered_alike(one, other, most_places):
             if plain_answer(one, n, store, row) != plain_answer(other, n, store, row):
                 return False
     return True
-
-
-def refused(call, *given):
-    try:
-        call(*given)
-    except LoopError as error:
-        return type(error), error.value
-    return None
 
 
 class Pushed(unittest.TestCase):

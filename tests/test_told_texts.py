@@ -4,6 +4,7 @@ import itertools
 import unittest
 
 from tests.plain_keepers import plain_number
+from tests.plain_machines import small_machines
 from tests.plain_webs import lines_of
 from withoutloops.errors import BadMachine, Wide
 from withoutloops.going import going_keeper
@@ -75,16 +76,6 @@ def word_lines(machine):
                 lines.append(f'set t{one} x is or and t{one} x not less x p and less x p {held}')
             lines.append('set acc is ' + sum_of([f'and f{u} p t{to(u)} p' for u in every]))
     return lines + ['answer is acc']
-
-
-def small_machines(states, signs):
-    """Machines of so many states, all ends, steps by rule: many unlike ones."""
-    ends = [tuple(state for state in range(states) if at >> state & 1) for at in range(2 ** states)]
-    leads = [tuple((state * by + more) % states for by, more in zip((1, 2, 0), (shift, shift + 1, 1)))
-             for shift in range(states) for state in range(states)]
-    for at, some in enumerate(ends):
-        steps = tuple(leads[(at + state * 2) % len(leads)][:len(signs)] for state in range(states))
-        yield states, at % states, some, signs, steps
 
 
 class Texts(unittest.TestCase):

@@ -6,7 +6,7 @@ import unittest
 
 from tests.plain_keepers import PlainBook, all_changes
 from tests.plain_webs import all_ties, has_sides, is_forest as is_plain_forest, joined, least_forest, parts_of, way_in
-from tests.test_book_refusals import odd_objects, refused
+from tests.refusing import Refusals, odd_objects, refused
 from withoutloops.books import Book, booked, first_wrong, is_right
 from withoutloops.errors import (
     BadPlace, BadRows, BadSize, Barred, NoBook, NoRing, NotTree, NotWeb, NoWay, OddRing,
@@ -301,18 +301,9 @@ class IsForest(unittest.TestCase):
         self.assertEqual(refused(is_forest, 2, rows, rows), (BadRows, rows))
 
 
-class Refusals(unittest.TestCase):
+class RefusedWebs(Refusals):
     book = booked(web_keeper(), 3, (('put', 'tie', (0, 1)),))
     alone = [forest, parts, two_sides, odd_ring]
-
-    def check(self, kind, value, *given):
-        told = refused(*given)
-        self.assertIsNotNone(told, given)
-        self.assertIs(told[0], kind, given)
-        if isinstance(value, (tuple, str)):
-            self.assertEqual(told[1], value)
-        else:
-            self.assertIs(told[1], value)
 
     def check_all(self, kind, value, book):
         for call in self.alone:

@@ -5,8 +5,8 @@ import random
 import unittest
 
 from tests.plain_keepers import PlainBook, all_changes, random_change
-from tests.test_book_refusals import odd_objects, refused
-from tests.test_told_texts import small_machines
+from tests.plain_machines import BAD_MACHINES, EVEN, FOUR, THREE, plain_reads, small_machines, state_behind
+from tests.refusing import Refusals, odd_objects, refused
 from withoutloops.books import Book, booked
 from withoutloops.errors import (
     BadMachine, BadPlace, BadSize, BadState, BadWord, Barred, NoBook, NotWords,
@@ -14,44 +14,6 @@ from withoutloops.errors import (
 from withoutloops.going import going_keeper
 from withoutloops.keepers import Keeper
 from withoutloops.words import between, letters, reads, word_keeper, word_of
-
-EVEN = (2, 0, (0,), ('a', 'b'), ((1, 0), (0, 1)))
-THREE = (3, 1, (0, 2), ('c', 'a', 'z'), ((1, 2, 0), (0, 0, 2), (2, 1, 1)))
-FOUR = (4, 0, (1,), ('a',), ((1,), (2,), (3,), (0,)))
-
-# What is no machine, each wrong in one of its parts.
-BAD_MACHINES = [
-    (), EVEN[:4], EVEN + (0,), list(EVEN), (2, 0, (0,), ('a', 'b'), [(1, 0), (0, 1)]),
-    (0, 0, (), ('a',), ()), (65, 0, (), ('a',), ((0,),) * 65), (True, 0, (), ('a',), ((0,),)), (None, 0, (), ('a',), ((0,),)),
-    ('1', 0, (), ('a',), ((0,),)), (-1, 0, (), ('a',), ()),
-    (1, 1, (), ('a',), ((0,),)), (1, -1, (), ('a',), ((0,),)), (1, False, (), ('a',), ((0,),)), (1, None, (), ('a',), ((0,),)),
-    (1, (0,), (), ('a',), ((0,),)),
-    (2, 0, (2,), ('a', 'b'), ((1, 0), (0, 1))), (2, 0, (1, 0), ('a', 'b'), ((1, 0), (0, 1))),
-    (2, 0, (0, 0), ('a', 'b'), ((1, 0), (0, 1))), (2, 0, [0], ('a', 'b'), ((1, 0), (0, 1))),
-    (2, 0, 0, ('a', 'b'), ((1, 0), (0, 1))), (2, 0, (True,), ('a', 'b'), ((1, 0), (0, 1))),
-    (2, 0, None, ('a', 'b'), ((1, 0), (0, 1))), (2, 0, (0, None), ('a', 'b'), ((1, 0), (0, 1))),
-    (2, 0, ((0,),), ('a', 'b'), ((1, 0), (0, 1))), (2, 0, (-1,), ('a', 'b'), ((1, 0), (0, 1))),
-    (2, 0, (0,), (), ((), ())), (2, 0, (0,), ('a', 'a'), ((1, 0), (0, 1))), (2, 0, (0,), ['a', 'b'], ((1, 0), (0, 1))),
-    (2, 0, (0,), ('a', 'b', 'c', 'd'), ((1, 0, 0, 0), (0, 1, 0, 0))), (2, 0, (0,), 'ab', ((1, 0), (0, 1))),
-    (2, 0, (0,), ('a', None), ((1, 0), (0, 1))), (2, 0, (0,), ('a', 1), ((1, 0), (0, 1))), (2, 0, (0,), ('a', ('b',)), ((1, 0), (0, 1))),
-    (2, 0, (0,), ('a', ''), ((1, 0), (0, 1))), (2, 0, (0,), ('a', 'bc'), ((1, 0), (0, 1))), (2, 0, (0,), ('a', 'B'), ((1, 0), (0, 1))),
-    (2, 0, (0,), ('a', '1'), ((1, 0), (0, 1))), (2, 0, (0,), ('a', ['b']), ((1, 0), (0, 1))), (2, 0, (0,), None, ((1, 0), (0, 1))),
-    (2, 0, (0,), ('a', 'b'), ()), (2, 0, (0,), ('a', 'b'), ((1, 0),)), (2, 0, (0,), ('a', 'b'), ((1, 0), (0, 1), (0, 0))),
-    (2, 0, (0,), ('a', 'b'), ((1, 0), (0,))), (2, 0, (0,), ('a', 'b'), ((1, 0), (0, 1, 0))), (2, 0, (0,), ('a', 'b'), ((1, 0), (0, 2))),
-    (2, 0, (0,), ('a', 'b'), ((1, 0), (0, -1))), (2, 0, (0,), ('a', 'b'), ((1, 0), (0, True))), (2, 0, (0,), ('a', 'b'), ((1, 0), [0, 1])),
-    (2, 0, (0,), ('a', 'b'), ((1, 0), None)), (2, 0, (0,), ('a', 'b'), ((1, 0), (0, None))), (2, 0, (0,), ('a', 'b'), None),
-    (2, 0, (0,), ('a', 'b'), ((1, 0), (0, '1'))), (2, 0, (0,), ('a', 'b'), ((1, 0), (0, (1,)))), (2, 0, (0,), ('a', 'b'), (1, 0, 0, 1)),
-] + [(1, 0, (), (sign,), ((0,),)) for sign in 'pqrxy']
-
-
-def state_behind(machine, state, word):
-    for sign in word:
-        state = machine[4][state][machine[3].index(sign)]
-    return state
-
-
-def plain_reads(machine, word):
-    return state_behind(machine, machine[1], word) in machine[2]
 
 
 class Kept(unittest.TestCase):
@@ -189,17 +151,8 @@ class Words(unittest.TestCase):
         self.assertIs(reads(word=('a', 'a'), machine=EVEN), True)
 
 
-class Refusals(unittest.TestCase):
+class RefusedWords(Refusals):
     book = booked(word_keeper(EVEN), 3, (('put', 'a', (0,)),))
-
-    def check(self, kind, value, *given):
-        told = refused(*given)
-        self.assertIsNotNone(told, given)
-        self.assertIs(told[0], kind, given)
-        if isinstance(value, str):
-            self.assertEqual(told[1], value)
-        else:
-            self.assertIs(told[1], value)
 
     def test_what_is_no_machine(self):
         for machine in BAD_MACHINES + odd_objects():
