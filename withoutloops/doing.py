@@ -52,7 +52,7 @@ def kept_behind(plan, grounds, store, kept, change):
             leaves[line.name] = rows
         elif len(rows) > 0:
             raise Barred(line.number)
-    return tuple([(name, fresh.get(name, rows)) for name, rows in kept])
+    return tuple([(name, fresh.get(name, standing)) for name, standing in kept])
 
 
 def kept_at_first(plan, grounds):
