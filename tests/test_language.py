@@ -22,6 +22,9 @@ LISTED = {
     'webs': 'web_keeper side_keeper least_keeper forest path part_of parts is_forest two_sides odd_ring shows_odd_ring '
             'joins_again',
     'numbers': 'number_keeper used number_of place_of how_many summed product over_half evenly',
+    'carrying': 'led_store turned_rows bound_of most_turned far_turned',
+    'makers': 'with_answer beside both_hold either_holds differs carried',
+    'judging': 'standings judged shows_judged alike shows_alike parted shows_parted acts on_road shows_on_road needless',
     'words': 'word_keeper word_of reads between both either least letters other turned',
 }
 METHODS = {'books': 'put strike do table wished copy __len__ __eq__', 'keepers': '__eq__', 'asks': '__eq__'}

@@ -7,7 +7,7 @@ A ground may have such bits for several stores, one store's bits behind the othe
 """
 
 from withoutloops.asks import width
-from withoutloops.leaves import leaf_rows
+from withoutloops.leaves import plain_leaves
 from withoutloops.values import CHANGED_NAMES, all_rows
 
 # How many positions a ground may have, by the number of places: no table is a number of more than 900 figures.
@@ -218,6 +218,7 @@ class Grounds:
     def __init__(self, n):
         self.n = n
         self.by_positions = {}
+        self.leaves = plain_leaves(n)
 
     def with_positions(self, positions):
         """The ground with so many positions."""
@@ -227,7 +228,10 @@ class Grounds:
 
     def leaves_upon(self, store):
         """By their words, the rows for which all leaves hold upon a store."""
-        return leaf_rows(self.n, store)
+        leaves = dict(self.leaves)
+        for name, rows in store:
+            leaves[name] = rows
+        return leaves
 
     def rows_that_hold(self, question, leaves, row):
         """The ascending tuple of the rows for which the question holds upon these leaves, with this changed row."""
