@@ -25,9 +25,16 @@ LISTED = {
     'carrying': 'led_store turned_rows bound_of most_turned far_turned',
     'makers': 'with_answer beside both_hold either_holds differs carried',
     'judging': 'standings judged shows_judged alike shows_alike parted shows_parted acts on_road shows_on_road needless',
+    'far': 'many behind answer_behind again_after',
+    'benches': 'Bench',
+    'journals': 'journal read_journal',
+    'desk': 'Desk',
     'words': 'word_keeper word_of reads between both either least letters other turned',
 }
-METHODS = {'books': 'put strike do table wished copy __len__ __eq__', 'keepers': '__eq__', 'asks': '__eq__'}
+METHODS = {
+    'asks': '__init__ __eq__', 'keepers': '__init__ __eq__', 'books': '__init__ put strike do table wished copy __len__ __eq__',
+    'benches': '__init__ put strike book_now undo redo tried keep copy __len__ __eq__', 'desk': '__init__ say',
+}
 
 BUILTINS = (
     'len range enumerate zip min max sum abs sorted reversed int str bool list tuple dict set isinstance ord repr any all '
@@ -97,7 +104,8 @@ class Files(unittest.TestCase):
 
     def test_methods_stand_in_the_body_of_their_class(self):
         for name, wanted in METHODS.items():
-            classes = [node for node in TREES[PACKAGE / f'{name}.py'].body if isinstance(node, ast.ClassDef)]
+            classes = [node for node in TREES[PACKAGE / f'{name}.py'].body if isinstance(node, ast.ClassDef) and node.name in LISTED[name]]
+            self.assertEqual(len(classes), 1)
             defined = [node.name for node in classes[0].body if isinstance(node, ast.FunctionDef)]
             for one in wanted.split():
                 self.assertEqual(defined.count(one), 1, (name, one))

@@ -1,10 +1,10 @@
 """Books: what a keeper keeps, change by change."""
 
-from withoutloops.doing import check_change, is_idle, is_told_name, kept_at_first, kept_behind, told_behind
+from withoutloops.doing import check_change, is_idle, kept_at_first, kept_behind, told_behind, told_change
 from withoutloops.errors import BadChange, BadChanges, BadTable, Barred, NoBook, NoWish
 from withoutloops.keepers import check_keeper
 from withoutloops.packed import Grounds
-from withoutloops.values import check_row, check_size
+from withoutloops.values import check_size
 
 
 class Book:
@@ -39,18 +39,11 @@ class Book:
 
     def put(self, name, row):
         """Lets a row come: whether it did not stand yet."""
-        return self.done("put", name, row)
+        return self.do(told_change("put", name, row, self.keeper.told, self.n))
 
     def strike(self, name, row):
         """Lets a row go: whether it stood."""
-        return self.done("strike", name, row)
-
-    def done(self, word, name, row):
-        """Does a change told by its parts: whether it was not idle."""
-        if not is_told_name(name, self.keeper.told):
-            raise BadTable(name)
-        check_row(row, dict(self.keeper.told)[name], self.n)
-        return self.do((word, name, row))
+        return self.do(told_change("strike", name, row, self.keeper.told, self.n))
 
     def do(self, change):
         """Does a change: whether it was not idle."""
@@ -80,12 +73,16 @@ class Book:
 
     def copy(self):
         """An equal book by itself."""
-        book = Book(self.keeper, self.n)
-        book.changes = self.changes
-        book.store = self.store
-        book.kept = self.kept
-        book.answer = self.answer
-        return book
+        return book_at(self.keeper, self.n, (self.store, self.kept), self.changes)
+
+
+def book_at(keeper, n, standing, changes):
+    """The Book behind these changes, which lead to this STANDING."""
+    book = Book(keeper, n)
+    book.store, book.kept = standing
+    book.changes = changes
+    book.answer = book.asked(keeper.plan.answer)
+    return book
 
 
 def check_book(book):

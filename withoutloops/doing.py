@@ -1,7 +1,7 @@
 """Changes: which values are changes, and what stands behind one."""
 
-from withoutloops.errors import BadChange, Barred
-from withoutloops.values import is_row
+from withoutloops.errors import BadChange, BadTable, Barred
+from withoutloops.values import check_row, is_row
 
 
 def is_told_name(name, told):
@@ -18,6 +18,14 @@ def check_change(change, told, n):
         raise BadChange(change)
     if not is_told_name(name, told) or not is_row(row, dict(told)[name], n):
         raise BadChange(change)
+
+
+def told_change(word, name, row, told, n):
+    """The CHANGE told by its parts. Refuses what is no told table's name, and no row of this table."""
+    if not is_told_name(name, told):
+        raise BadTable(name)
+    check_row(row, dict(told)[name], n)
+    return word, name, row
 
 
 def is_idle(store, change):
