@@ -1,6 +1,7 @@
 """Changes: which values are changes, and what stands behind one."""
 
 from withoutloops.errors import BadChange, BadTable, Barred
+from withoutloops.leaves import Leaves
 from withoutloops.values import check_row, is_row
 
 
@@ -50,14 +51,14 @@ def told_behind(store, change):
 def kept_behind(plan, grounds, store, kept, change):
     """The STORE of kept tables behind a change that is not idle, store and kept standing ahead of it."""
     word, changed, row = change
-    leaves = grounds.leaves_upon(store + kept)
+    leaves = Leaves({}, grounds.leaves_upon(store + kept))
     fresh = {}
     for line in plan.sections.get((word, changed), []):
         rows = grounds.rows_that_hold(line.question, leaves, row)
         if line.word == "set":
             fresh[line.name] = rows
         elif line.word == "let":
-            leaves[line.name] = rows
+            leaves.tell(line.name, rows)
         elif len(rows) > 0:
             raise Barred(line.number)
     return tuple([(name, fresh.get(name, standing)) for name, standing in kept])

@@ -7,7 +7,7 @@ A ground may have such bits for several stores, one store's bits behind the othe
 """
 
 from withoutloops.asks import width
-from withoutloops.leaves import plain_leaves
+from withoutloops.leaves import Leaves, plain_leaves
 from withoutloops.values import CHANGED_NAMES, all_rows
 
 # How many positions a ground may have, by the number of places: no table is a number of more than 900 figures.
@@ -19,11 +19,24 @@ def repeated(many, gap):
     return ((1 << many * gap) - 1) // ((1 << gap) - 1)
 
 
+class Spot:
+    """Where a name of a place stands: by place the bits that have it there, its position, None if it has none.
+
+    Spots with one key are alike: that is the position, or a number below 0 for each place.
+    """
+
+    def __init__(self, position, lots, key):
+        self.position = position
+        self.lots = lots
+        self.key = key
+
+
 class Ground:
     """All rows of n places at some positions, a bit for each: that of a row is the sum of places times gaps."""
 
     def __init__(self, n, positions, stores):
         self.n = n
+        self.positions = positions
         self.gaps = []
         many = 1
         for _ in range(positions):
@@ -34,6 +47,8 @@ class Ground:
         self.full = (1 << many * stores) - 1
         self.copies = [repeated(n, gap) for gap in self.gaps]
         self.lots = [self.lots_of(many * stores, gap) for gap in self.gaps]
+        self.spots = [Spot(position, lots, position) for position, lots in enumerate(self.lots)]
+        self.fixed_spots = [Spot(None, self.lots_at(place), -1 - place) for place in range(n)]
         self.heads = {}
 
     def lots_of(self, many, gap):
@@ -69,14 +84,6 @@ class Ground:
         return [table >> store * self.size & whole for store in range(self.stores)]
 
 
-class Spot:
-    """Where a name of a place stands: its position, None if it has none, and by place the bits that have it there."""
-
-    def __init__(self, position, lots):
-        self.position = position
-        self.lots = lots
-
-
 def united(tables):
     """The table of what stands in at least one of the tables."""
     found = 0
@@ -93,32 +100,47 @@ def common(tables):
     return found
 
 
+def held(tree, lots, at):
+    """The table of what has one of the rows of a tree at the names with these lots, those from at on."""
+    found = 0
+    if at == len(lots) - 1:
+        for place in tree:
+            found = found | lots[at][place]
+        return found
+    for place, inner in tree.items():
+        lot = lots[at][place]
+        if lot != 0:
+            found = found | lot & held(inner, lots, at + 1)
+    return found
+
+
 class Walk:
     """Goes through all rows of a ground, and tells for which of them the parts of a question hold.
 
-    rows tells by each word of a leaf the rows for which it holds. standing tells by (word, row) in which stores of
-    the ground the row stands, as the table of their bits; where it tells nothing, the row stands in all of them.
+    leaves tell by each word of a leaf the rows for which it holds. standing is None if all of them stand in each store
+    of the ground; otherwise it tells by (word, row) in which stores the row stands, as the table of their bits, and
+    where it tells nothing, the row stands in all of them.
     """
 
-    def __init__(self, ground, rows, standing):
+    def __init__(self, ground, leaves, standing):
         self.ground = ground
-        self.rows = rows
+        self.leaves = leaves
         self.standing = standing
 
     def whole_table(self, question, row):
         """The table of a Question, the names of its head at the first positions, asked with this changed row."""
         spots = {}
         for position, name in enumerate(question.head):
-            spots[name] = Spot(position, self.ground.lots[position])
+            spots[name] = self.ground.spots[position]
         for name, place in zip(CHANGED_NAMES, row):
-            spots[name] = Spot(None, self.ground.lots_at(place))
+            spots[name] = self.ground.fixed_spots[place]
         return self.table(question.whole, spots)
 
     def table(self, part, spots):
         """The table of a part, the names that are alive there standing at these spots."""
         word = part.word
-        if word in self.rows:
-            return self.leaf(word, [spots[name].lots for name in part.places])
+        if len(part.inner) == 0:
+            return self.leaf(word, [spots[name] for name in part.places])
         if word == "not":
             return self.ground.full ^ self.table(part.inner[0], spots)
         if word == "and":
@@ -132,14 +154,26 @@ class Walk:
             return common(tables)
         return self.come_to(tables, spots[part.places[0]], spots[part.places[1]])
 
-    def leaf(self, word, lots):
-        """The table of what has one of the rows of this word at names with these lots."""
+    def leaf(self, word, spots):
+        """The table of what has one of the rows of this word at names with these spots."""
+        leaves = self.leaves.layer(word)
+        if self.standing is not None:
+            return self.leaf_in_some(word, leaves.rows[word], [spot.lots for spot in spots])
+        if len(spots) == 0:
+            return self.ground.full if len(leaves.rows[word]) > 0 else 0
+        key = (self.ground.positions, word, tuple([spot.key for spot in spots]))
+        if key not in leaves.tables:
+            leaves.tables[key] = held(leaves.tree(word, len(spots)), [spot.lots for spot in spots], 0)
+        return leaves.tables[key]
+
+    def leaf_in_some(self, word, rows, lots):
+        """The same, where the rows do not stand in all stores."""
         found = 0
-        for row in self.rows[word]:
-            held = self.standing.get((word, row), self.ground.full)
+        for row in rows:
+            bits = self.standing.get((word, row), self.ground.full)
             for place, by_place in zip(row, lots):
-                held = held & by_place[place]
-            found = found | held
+                bits = bits & by_place[place]
+            found = found | bits
         return found
 
     def both(self, inner, spots):
@@ -174,7 +208,7 @@ class Walk:
         if position is None:
             return self.by_each_place(part, bound, spots)
         spread = dict(spots)
-        spread[bound[0]] = Spot(position, self.ground.lots[position])
+        spread[bound[0]] = self.ground.spots[position]
         tables = [self.ground.parted(table, position) for table in self.by_places(part, bound[1:], spread)]
         return [by_place[place] for place in range(self.ground.n) for by_place in tables]
 
@@ -183,7 +217,7 @@ class Walk:
         tables = []
         for place in range(self.ground.n):
             put = dict(spots)
-            put[bound[0]] = Spot(None, self.ground.lots_at(place))
+            put[bound[0]] = self.ground.fixed_spots[place]
             tables.extend(self.by_places(part, bound[1:], put))
         return tables
 
@@ -213,12 +247,14 @@ def most_positions(questions, n):
 
 
 class Grounds:
-    """What questions over n places are asked upon, each ground made once."""
+    """What questions over n places are asked upon, each ground made once, and the leaves of the last store."""
 
     def __init__(self, n):
         self.n = n
         self.by_positions = {}
-        self.leaves = plain_leaves(n)
+        self.plain = Leaves(plain_leaves(n), None)
+        self.last_store = None
+        self.last_leaves = None
 
     def with_positions(self, positions):
         """The ground with so many positions."""
@@ -228,13 +264,13 @@ class Grounds:
 
     def leaves_upon(self, store):
         """By their words, the rows for which all leaves hold upon a store."""
-        leaves = dict(self.leaves)
-        for name, rows in store:
-            leaves[name] = rows
-        return leaves
+        if self.last_store != store:
+            self.last_store = store
+            self.last_leaves = Leaves(dict(store), self.plain)
+        return self.last_leaves
 
     def rows_that_hold(self, question, leaves, row):
         """The ascending tuple of the rows for which the question holds upon these leaves, with this changed row."""
         ground = self.with_positions(most_positions([question], self.n))
-        table = Walk(ground, leaves, {}).whole_table(question, row)
+        table = Walk(ground, leaves, None).whole_table(question, row)
         return ground.rows_of(table, len(question.head))

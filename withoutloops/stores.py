@@ -1,6 +1,6 @@
 """All stores of some tables, and what questions answer upon each of them: many stores are asked at once."""
 
-from withoutloops.leaves import leaf_rows
+from withoutloops.leaves import Leaves, leaf_rows
 from withoutloops.packed import Ground, Walk, most_positions
 from withoutloops.values import all_rows
 
@@ -45,7 +45,7 @@ class AllStores:
             at_once = at_once * 2
         self.ground = Ground(n, positions, at_once)
         everything = [(name, all_rows(n, many)) for name, many in asked]
-        self.leaves = leaf_rows(n, everything)
+        self.leaves = Leaves(leaf_rows(n, everything), None)
         self.lots = [self.lot_from(first) for first in range(0, self.many, at_once)]
 
     def lot_from(self, first):
