@@ -139,6 +139,19 @@ class Far(unittest.TestCase):
             self.assertEqual(behind(keeper, 1, (('again', times + 2 * 10 ** 11, DAY),), 20) == (by_one.store, by_one.kept), times > 1)
         self.assertEqual(again_after(keeper, 1, (PUT,), 9), (1, 1))
 
+    def test_a_round_of_three_behind_one(self):
+        """What is kept goes from 0 to 1, and round from 1 to 3."""
+        lines = ['told in 0', 'kept k0 0', 'kept k1 0', 'strike in', 'set k0 is or not k0 k1', 'set k1 is or and k0 not k1 and k1 not k0']
+        keeper = Keeper('\n'.join(lines + ['answer is k0']))
+        self.assertEqual(again_after(keeper, 1, DAY, 4), (1, 3))
+        self.assertEqual(again_after(keeper, 1, DAY + DAY, 4), (1, 3))
+        for times in (*range(12), FAR - 2, FAR - 1, FAR):
+            number = 1 + (times - 1) % 3 if times else 0
+            self.assertEqual(counted(behind(keeper, 1, (('again', times, DAY),), 4)), number)
+            self.assertEqual(counted(behind(keeper, 1, (('again', times, DAY + DAY),), 4)), 1 + (2 * times - 1) % 3 if times else 0)
+        self.assertEqual(told_by(behind, keeper, 1, (('again', FAR, DAY),), 3), (Wide, 3))
+        self.assertEqual(told_by(again_after, keeper, 1, DAY, 3), (Wide, 3))
+
     def test_most_just_enough(self):
         keeper = counter(3)
         # Behind 0, 1, 2, 3 times of DAY stand four unlike STANDINGS, behind the fourth time the first one again.

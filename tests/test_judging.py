@@ -126,6 +126,13 @@ class Checks(unittest.TestCase):
                       told + ((),), (first + (change, change), second), (first, None), (first[1:], second[1:]),
                       (first, second[:-1] + (('put', 'none', ()),)), 1):
             self.assertIs(shows_on_road(keeper, n, name, many, value), False, value)
+        rng = random.Random(many)
+        for _ in range(12):
+            changes = tuple(rng.choice(roads.changes) for _ in range(fewest))
+            at = rng.choice([0, len(first), rng.randint(0, fewest)])
+            ends = [roads.run(some) for some in (changes[:at], changes[at:])]
+            is_so = None not in ends and ends[0][0] == ends[1][0] and dict(ends[0][1])[name] != dict(ends[1][1])[name]
+            self.assertIs(shows_on_road(keeper, n, name, many, (changes[:at], changes[at:])), is_so, changes)
 
     def check_two(self, texts, n, both):
         """What parts two keepers, beside all pairs."""
@@ -286,6 +293,17 @@ class Told(Checks):
         # To put 0 again is idle in the one that has it, and barred in the one that has 1.
         self.assertEqual(len(parted(barred, 2, (there,), (('put', 'in', (1,)),), 9)), 1)
         self.assertEqual(acts(barred, 2, 9), 3)
+
+    def test_the_least_sum_on_a_road(self):
+        """The second way is shorter for one told STORE, the sum for another one."""
+        lines = ['told in 1', 'kept two 0', 'kept a 0', 'put in', 'set two is or two some x in x',
+                 'set a is and some x and in x less p x some x some y and in x and in y not same x y',
+                 'strike in', 'set a is and two not some x and in x not same x p', 'answer is a']
+        text = '\n'.join(lines)
+        self.check_one(text, 3, self.roads(text, 3))
+        self.assertEqual(sorted(map(len, on_road(Keeper(text), 3, 'a', 99))), [0, 4])
+        barred = text.replace('strike in', 'bar some x and in x less x p\nstrike in\nbar a')
+        self.check_one(barred, 3, self.roads(barred, 3))
 
     def test_far_partings(self):
         """A keeper that counts: two STANDINGS are parted only behind many CHANGES."""

@@ -88,13 +88,10 @@ def shows_alike(one, other, n, most, value):
 
 
 def are_parted(doers, ahead, changes):
-    """Whether changes, done by two behind those ahead of each, part what stands there."""
-    if len(changes) > 0:
-        without = [doer.all_done(some + changes[:-1]) for doer, some in zip(doers, ahead)]
-        if without[0] is None or without[1] is None:
-            return False
+    """Whether changes, done by two behind those ahead of each, part what stands there, if fewer changes do not."""
     one, other = [doer.all_done(some + changes) for doer, some in zip(doers, ahead)]
     if one is None or other is None:
+        # If one alone came to its end, it was the last change that was barred: fewer would part the two otherwise.
         return (one is None) != (other is None)
     return doers[0].answer_at(one) != doers[1].answer_at(other)
 
