@@ -170,6 +170,27 @@ class Statements(unittest.TestCase):
             self.assertIn(node.exc.func.id, own, path)
             self.assertEqual(len(node.exc.args), 1, path)
 
+    def test_finally(self):
+        """Simple names and attributes are assigned, all together or one, perhaps if a name is None."""
+        for path, node in each(ast.Try):
+            for statement in node.finalbody:
+                plain = statement.body if isinstance(statement, ast.If) else [statement]
+                if isinstance(statement, ast.If):
+                    self.assertRegex(ast.unparse(statement.test), r'^\w+ is None$', path)
+                    self.assertEqual(statement.orelse, [], path)
+                for one in plain:
+                    self.assertIsInstance(one, ast.Assign, path)
+                    self.assertRegex(ast.unparse(one), r'^\(?[\w.]+(, [\w.]+)*\)? = \(?[\w.]+(, [\w.]+)*\)?$', path)
+
+    def test_attributes_are_assigned_through_a_local_name(self):
+        for path, node in each(ast.Attribute):
+            if isinstance(node.ctx, ast.Store):
+                self.assertIsInstance(node.value, ast.Name, (path, node.lineno))
+
+    def test_no_method_is_called_like_one_that_changes_lists_and_sets(self):
+        methods = {one.name for _, node in each(ast.ClassDef) for one in node.body if isinstance(one, ast.FunctionDef)}
+        self.assertFalse(methods & {'add', 'discard', 'append', 'clear', 'extend', 'insert', 'pop', 'remove', 'reverse', 'update', 'keys'})
+
     def test_what_is_gone_over_at_once(self):
         for path, tree in TREES.items():
             right = set()

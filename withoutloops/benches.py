@@ -103,9 +103,10 @@ class Bench:
 
     def keep(self):
         """Lets what is done in the innermost trial stand."""
-        if self.trial is None:
+        trial = self.trial
+        if trial is None:
             raise NoBlock(None)
-        self.trial.stands = True
+        trial.stands = True
 
     def copy(self):
         """An independent bench, alike in all things, outside of all trials."""

@@ -96,16 +96,9 @@ def are_parted(doers, ahead, changes):
     return doers[0].answer_at(one) != doers[1].answer_at(other)
 
 
-def check_parted(keeper, n, one, other):
-    """The two Books behind CHANGES. Refuses what is no Keeper, no number of places, or no CHANGES."""
-    check_keeper(keeper)
-    check_size(n)
-    return booked(keeper, n, one), booked(keeper, n, other)
-
-
 def parted(keeper, n, one, other, most):
     """None if nothing parts the STANDINGS behind one and behind other, otherwise the fewest changes that do."""
-    books = check_parted(keeper, n, one, other)
+    books = [booked(keeper, n, changes) for changes in (one, other)]
     landscape = landscape_of(keeper, n, most)
     first, second = [landscape.numbers[(book.store, book.kept)] for book in books]
     return parting(States([landscape]), first, second)

@@ -124,7 +124,7 @@ class Traveller:
             last = self.behind_parts(line.last(), repeat.parts, ahead + line.many_times() * repeat.far)
             if line.has(last):
                 return line.met_behind(repeat.times, last)
-            line.add(last)
+            line.meet(last)
         return line.last()
 
     def again_after(self, history):
@@ -134,7 +134,7 @@ class Traveller:
             last = self.behind_parts(line.last(), history.parts, line.many_times() * history.far)
             if line.has(last):
                 return line.round_from(last)
-            line.add(last)
+            line.meet(last)
         raise Wide(self.most)
 
 
@@ -157,7 +157,7 @@ class Line:
         """Whether this one was met."""
         return number in self.behind_many
 
-    def add(self, number):
+    def meet(self, number):
         """Meets one more."""
         self.behind_many[number] = len(self.met)
         self.met.append(number)
