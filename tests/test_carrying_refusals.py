@@ -136,6 +136,10 @@ class Answers(Refusals):
         for text, number in ((None, 0), ('', 1), ('row x', 3), ('turn x x', 1), ('row x p', 3), ('go x x yes', 4), ('some go yes', 2),
                              ('row x x\nwish is yes', 3), (b'yes', 0)):
             self.check(BadQuestion, number, with_answer, going, ('x',), text)
+        for text in odd_objects():
+            if not isinstance(text, str):
+                self.check(BadQuestion, 0, with_answer, going, (), text)
+                self.check(BadHead, ('go',), with_answer, going, ('go',), text)
         self.check(HasLoop, 'reach x x u v row u v', with_answer, going, ('x',), 'reach x x u v row u v')
         self.check(BadQuestion, 8, with_answer, going, ('x',), 'reach x x u v row u w')
 

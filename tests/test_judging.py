@@ -28,6 +28,10 @@ def without_line(text, at):
     return '\n'.join(lines[:at] + lines[at + 1:])
 
 
+def without_wish(text):
+    return '\n'.join(line for line in text.split('\n') if line.split(' ')[0] != 'wish')
+
+
 class Checks(unittest.TestCase):
     def roads(self, text, n, most=120):
         """The plain roads of a keeper's text, None if there are too many."""
@@ -367,6 +371,23 @@ class Otherwise(unittest.TestCase):
                     if two is not None:
                         self.assertIs(shows_on_road(keeper, 2, name, 60, tuple(self.called(some, way) for some in two)), True)
                 self.check_parted(rng, keeper, way)
+
+    def test_what_parts_two_with_other_places(self):
+        rng = random.Random(45)
+        found = []
+        while len(found) < 30:
+            one = Keeper(random_keeper_text(rng))
+            other = Keeper(without_wish(one.text).rsplit('answer', 1)[0] + 'answer is no')
+            if 'less' in one.text.split():
+                continue
+            try:
+                told = alike(one, other, 2, 60)
+            except Wide:
+                continue
+            found.append(told)
+            if told is not None:
+                self.assertIs(shows_alike(one, other, 2, 60, self.called(told, (1, 0))), True)
+        self.assertGreater(len(set(found)), 2)
 
     def check_parted(self, rng, keeper, way):
         changes = []

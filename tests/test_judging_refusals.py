@@ -102,6 +102,20 @@ class Refused(Refusals):
         self.check(Wide, 3, alike, keeper, Keeper('told in 1\nanswer is no'), 2, 3)
         self.check(Wide, 3, parted, keeper, 2, (), (THERE,), 3)
 
+    def test_values_of_all_kinds_are_shown_to_be_wrong(self):
+        wrong = judged(KEEPER, 2, 99)
+        self.assertEqual(wrong[0], 'wrong')
+        rash = Keeper('\n'.join(LINES[:2] + ['strike in', 'set last x is yes'] + LINES[-2:]))
+        told = [(shows_judged, (KEEPER,), judged(KEEPER, 2, 99)), (shows_alike, (KEEPER, rash), alike(KEEPER, rash, 2, 99)),
+                (shows_judged, (Keeper('told in 1\nanswer is no\nwish is no'),), ('right', 4))]
+        for value in odd_objects() + [KEEPER, wrong + wrong, [wrong], (wrong,), ('wrong', [THERE]), ('wrong', None), ('right', None), (None, ())]:
+            for call, keepers, right in told:
+                self.assertIs(call(*keepers, 2, 99, right), True)
+                if value != right:
+                    self.assertIs(call(*keepers, 2, 99, value), False, value)
+            self.assertIs(shows_parted(KEEPER, 2, (), (THERE,), 99, value), value == parted(KEEPER, 2, (), (THERE,), 99))
+            self.assertIs(shows_on_road(KEEPER, 2, 'last', 99, value), False)
+
     def test_by_names(self):
         self.assertEqual(standings(keeper=KEEPER, n=1, most=9), judged(keeper=KEEPER, n=1, most=9)[1])
         self.assertIsNone(alike(one=KEEPER, other=NO_WISH, n=2, most=9))

@@ -124,7 +124,7 @@ class Whole(unittest.TestCase):
     def test_places_called_otherwise(self):
         """In a keeper without less all is told with the places called otherwise."""
         rng = random.Random(93)
-        texts = [going_keeper().text]
+        texts = [going_keeper().text, carried(going_keeper(), TURNED).text, beside(going_keeper(), number_keeper()).text]
         while len(texts) < 40:
             text = random_keeper_text(rng)
             if 'less' not in text.split():
